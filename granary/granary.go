@@ -1,0 +1,75 @@
+// Package granary: rows of a table, in few bits: see DOC.md.
+package granary
+
+import (
+	"granary/api"
+	"granary/summary"
+)
+
+// Check tells whether it is a configuration (P2).
+func Check(c api.Config) api.Errno {
+	if !isConfig(c) {
+		return api.ErrArg
+	}
+	return api.OK
+}
+
+// Summary tells the summary of values (P2).
+func Summary(values, weights []int) []api.Entry { return summary.Of(values, weights) }
+
+// Join joins two summaries (P2).
+func Join(a, b []api.Entry) []api.Entry { return summary.Join(a, b) }
+
+// Cut cuts a summary (P2).
+func Cut(a []api.Entry, size int) []api.Entry { return summary.Cut(a, size) }
+
+// Intake reads rows.
+type Intake struct{}
+
+// Reader makes a reader (P3).
+func Reader(c api.Config) (*Intake, api.Errno) { return nil, api.OK }
+
+// Feed takes a piece (P3).
+func (x *Intake) Feed(piece string) (api.Errno, int) { return api.OK, 0 }
+
+// Close ends the text (P3).
+func (x *Intake) Close() (*Dataset, api.Errno, int) { return nil, api.OK, 0 }
+
+// Dataset is rows, in few bits.
+type Dataset struct{}
+
+// Rows tells how many there are (P5).
+func (d *Dataset) Rows() int { return 0 }
+
+// Lookup tells a row's bin (P5).
+func (d *Dataset) Lookup(row, feature int) (int, api.Errno) { return 0, api.OK }
+
+// Bounds tells a feature's bounds, or its dictionary (P5).
+func (d *Dataset) Bounds(feature int) ([]int, []string, api.Errno) { return nil, nil, api.OK }
+
+// Bundles tells which features are laid together (P5).
+func (d *Dataset) Bundles() [][]int { return nil }
+
+// Bytes writes the dataset (P5).
+func (d *Dataset) Bytes() string { return "" }
+
+// Open reads a dataset (P6).
+func Open(s string) (*Dataset, api.Errno) { return nil, api.OK }
+
+// Store is a disk.
+type Store struct{}
+
+// Disk makes a disk (P7).
+func Disk(room int) (*Store, api.Errno) { return nil, api.OK }
+
+// Save saves a dataset (P7).
+func (s *Store) Save(d *Dataset) api.Errno { return api.OK }
+
+// Load loads what was saved (P8).
+func (s *Store) Load() (*Dataset, api.Errno) { return nil, api.OK }
+
+// Fail lets power fail (P8).
+func (s *Store) Fail(steps, keep int) api.Errno { return api.OK }
+
+// Start starts the disk again (P8).
+func (s *Store) Start() api.Errno { return api.OK }

@@ -4,6 +4,7 @@ import (
 	"math"
 	"math/rand/v2"
 	"slices"
+	"strings"
 	"testing"
 
 	"granary/api"
@@ -147,5 +148,102 @@ func TestLongLists(t *testing.T) {
 	cut := granary.Cut(joined, n-1)
 	if len(cut) > n-1 || cut[0] != joined[0] || cut[len(cut)-1] != joined[n-1] {
 		t.Errorf("P2: Cut to %d has %d entries, from %v to %v", n-1, len(cut), cut[0], cut[len(cut)-1])
+	}
+}
+
+// TestReaderKeepsNothingHandedIn changes the configuration behind the call.
+func TestReaderKeepsNothingHandedIn(t *testing.T) {
+	c := richConfig()
+	features, all := roomy(c.Features, api.Feature{Scale: 77})
+	c.Features = features
+	was := slices.Clone(all)
+	x := newReader(t, c)
+	feed(t, x, rich[:20])
+	if !slices.Equal(all, was) {
+		t.Errorf("P1: Reader was handed %v: it is %v", was, all)
+	}
+	for i := range all {
+		all[i] = api.Feature{Word: true, Cut: 99}
+	}
+	c.Bins, c.Size, c.Budget = 2, 2, 0
+	feed(t, x, rich[20:])
+	sameDataset(t, closed(t, x), read(t, richConfig(), rich), 3)
+}
+
+// TestDatasetKeepsToItsMemory writes into all lists that come out, and into
+// their spare room.
+func TestDatasetKeepsToItsMemory(t *testing.T) {
+	d, want := read(t, richConfig(), rich), read(t, richConfig(), rich)
+	first, second := d.Bundles(), d.Bundles()
+	for _, list := range first[:cap(first)] {
+		fill(list, -77)
+	}
+	fill(first, nil)
+	if !slices.EqualFunc(second, want.Bundles(), slices.Equal) {
+		t.Errorf("P1: two answers of Bundles share memory: %v", second)
+	}
+	for f := range 3 {
+		bounds, dictionary, _ := d.Bounds(f)
+		laterBounds, laterDictionary, _ := d.Bounds(f)
+		fill(bounds, -77)
+		fill(dictionary, "scribble")
+		wantBounds, wantDictionary, _ := want.Bounds(f)
+		if !slices.Equal(laterBounds, wantBounds) || !slices.Equal(laterDictionary, wantDictionary) {
+			t.Errorf("P1: two answers of Bounds(%d) share memory: %v, %q", f, laterBounds, laterDictionary)
+		}
+	}
+	sameDataset(t, d, want, 3)
+}
+
+// TestListsOfBundlesShareNothing appends to one list within another.
+func TestListsOfBundlesShareNothing(t *testing.T) {
+	c := api.Config{Features: make([]api.Feature, 4), Bins: 2, Size: 2}
+	d := read(t, c, outs(9, "xx..", "xx..", "x...", "..xx"))
+	want, lists := d.Bundles(), d.Bundles()
+	for i := range lists {
+		fill(append(lists[i], -1, -2, -3), -77)
+		for j := i + 1; j < len(lists); j++ {
+			if !slices.Equal(lists[j], want[j]) {
+				t.Errorf("P1: list %d of Bundles shares memory with list %d: %v", i, j, lists[j])
+			}
+		}
+	}
+}
+
+func fill[T any](list []T, mark T) {
+	list = list[:cap(list)]
+	for i := range list {
+		list[i] = mark
+	}
+}
+
+// TestReadersDoNotTouchOneAnother feeds three of them in turns: one is wrong.
+func TestReadersDoNotTouchOneAnother(t *testing.T) {
+	a, b, bad := newReader(t, richConfig()), newReader(t, richConfig()), newReader(t, richConfig())
+	other := "5,1,b,2\n5,2,c,3\n"
+	wantFeed(t, bad, "0", api.ErrForm, 0)
+	for i := range len(rich) {
+		feed(t, a, rich[i:i+1])
+		if i < len(other) {
+			feed(t, b, other[i:i+1])
+		}
+		wantFeed(t, bad, rich[i:i+1], api.ErrForm, 0)
+	}
+	first := closed(t, a)
+	bytes := first.Bytes()
+	sameDataset(t, closed(t, b), read(t, richConfig(), other), 3)
+	sameDataset(t, first, read(t, richConfig(), rich), 3)
+	if first.Bytes() != bytes {
+		t.Errorf("P1: the bytes of a dataset have changed")
+	}
+}
+
+// TestLongTexts are refused at their first wrong byte, however long they are.
+func TestLongTexts(t *testing.T) {
+	long := strings.Repeat("9", 1<<24)
+	for text, place := range map[string]int{long: 2, "1," + long: 7, "1,-" + long: 8, "1,1,\"" + strings.Repeat("a", 1<<24): 13} {
+		x := newReader(t, plain(2, numbers(1), words(1)))
+		wantFeed(t, x, text, api.ErrForm, place)
+		wantNoClose(t, x, api.ErrForm, place)
 	}
 }

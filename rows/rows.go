@@ -38,10 +38,14 @@ func (r *Reader) Take(b byte) api.Errno {
 	if len(r.table.Weights) == api.MaxRows {
 		return api.ErrMany
 	}
-	if r.fields && r.takeInField(b) || !r.fields && r.takeInWeight(b) {
-		return api.OK
+	take := r.takeInWeight
+	if r.fields {
+		take = r.takeInField
 	}
-	return api.ErrForm
+	if !take(b) {
+		return api.ErrForm
+	}
+	return api.OK
 }
 
 // Whole tells whether the text may end: no row has begun.

@@ -31,11 +31,15 @@ func (s shape) Width() int {
 // Of makes the column of some numbers, none of them greater than it says: the
 // sparse one, if fewer than a quarter of them are not 0.
 func Of(numbers []int, greatest int) Column {
-	s := shape{rows: len(numbers), width: bits.Len(uint(greatest))}
+	s := shape{rows: len(numbers), width: bitsOf(greatest)}
 	if 4*notZero(numbers) < s.Rows() {
 		return newSparse(s, numbers)
 	}
 	return newDense(s, numbers)
+}
+
+func bitsOf(greatest int) int {
+	return bits.Len(uint(greatest))
 }
 
 func notZero(numbers []int) int {

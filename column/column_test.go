@@ -2,6 +2,7 @@ package column_test
 
 import (
 	"math/rand/v2"
+	"slices"
 	"testing"
 
 	"granary/column"
@@ -22,6 +23,21 @@ func wantColumn(t *testing.T, numbers []int, greatest, width int, letter byte) {
 	bytes := c.Append([]byte("ahead"))
 	if string(bytes[:5]) != "ahead" || bytes[5] != letter {
 		t.Errorf("P5: the column of %v is written %q, want the letter %q", numbers, bytes, letter)
+	}
+	wantReadAgain(t, bytes[5:], len(numbers), greatest)
+}
+
+// wantReadAgain reads a column, and writes it again.
+func wantReadAgain(t *testing.T, bytes []byte, rows, greatest int) {
+	t.Helper()
+	place := 0
+	next := func() int {
+		place++
+		return int(bytes[place-1])
+	}
+	c := column.Read(next, rows, greatest)
+	if again := c.Append(nil); !slices.Equal(again, bytes) || place != len(bytes) {
+		t.Errorf("P11: what is written %q is, once it is read, written %q", bytes, again)
 	}
 }
 

@@ -44,8 +44,9 @@ func (p *Part) takeLetter(b byte) bool {
 	return true
 }
 
+// takeSign is asked when the byte is no quote.
 func (p *Part) takeSign(b byte) bool {
-	if !isLetter(b) && b != ' ' && b != ',' && b != '\n' || p.full() {
+	if !isSign(b) || p.full() {
 		return false
 	}
 	p.word = append(p.word, b)
@@ -76,6 +77,20 @@ func (p *Part) full() bool {
 
 func isLetter(b byte) bool {
 	return 'a' <= b && b <= 'z'
+}
+
+// isSign tells whether a word may have the byte.
+func isSign(b byte) bool {
+	return isLetter(b) || b == ' ' || b == ',' || b == '\n' || b == '"'
+}
+
+func isWord(s string) bool {
+	for i := range len(s) {
+		if !isSign(s[i]) {
+			return false
+		}
+	}
+	return len(s) <= api.MaxWord
 }
 
 type weighed struct {

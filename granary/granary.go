@@ -4,6 +4,7 @@ package granary
 import (
 	"granary/api"
 	"granary/dataset"
+	"granary/disk"
 	"granary/summary"
 )
 
@@ -99,22 +100,41 @@ func (d *Dataset) Bundles() [][]int { return d.data.Bundles() }
 func (d *Dataset) Bytes() string { return d.data.Bytes() }
 
 // Open reads a dataset (P6).
-func Open(s string) (*Dataset, api.Errno) { return nil, api.OK }
+func Open(s string) (*Dataset, api.Errno) {
+	data, ok := dataset.Open(s)
+	if !ok {
+		return nil, api.ErrForm
+	}
+	return &Dataset{data}, api.OK
+}
 
 // Store is a disk.
-type Store struct{}
+type Store struct {
+	disk *disk.Disk
+}
 
 // Disk makes a disk (P7).
-func Disk(room int) (*Store, api.Errno) { return nil, api.OK }
+func Disk(room int) (*Store, api.Errno) {
+	if !within(room, 0, api.MaxRoom) {
+		return nil, api.ErrArg
+	}
+	return &Store{disk.New(room)}, api.OK
+}
 
 // Save saves a dataset (P7).
-func (s *Store) Save(d *Dataset) api.Errno { return api.OK }
+func (s *Store) Save(d *Dataset) api.Errno { return s.disk.Save(d.Bytes()) }
 
 // Load loads what was saved (P8).
-func (s *Store) Load() (*Dataset, api.Errno) { return nil, api.OK }
+func (s *Store) Load() (*Dataset, api.Errno) {
+	bytes, e := s.disk.Load()
+	if e != api.OK {
+		return nil, e
+	}
+	return Open(bytes)
+}
 
 // Fail lets power fail (P8).
-func (s *Store) Fail(steps, keep int) api.Errno { return api.OK }
+func (s *Store) Fail(steps, keep int) api.Errno { return s.disk.Fail(steps, keep) }
 
 // Start starts the disk again (P8).
-func (s *Store) Start() api.Errno { return api.OK }
+func (s *Store) Start() api.Errno { return s.disk.Start() }
